@@ -1,0 +1,1 @@
+"""Anypoints: what holds by every table of points, or by every table of a family."""
