@@ -4,7 +4,8 @@ import unittest
 from anypoints import errors
 from tests.helpers import Case
 
-BASES = {"PointsError": ValueError, "MissingError": LookupError, "StateError": RuntimeError, "LimitError": ArithmeticError}
+BASES = {"PointsError": ValueError, "MissingError": LookupError, "StateError": RuntimeError,
+         "LimitError": ArithmeticError}
 
 ATTRIBUTES = {
     "PointsError": {
