@@ -2,7 +2,7 @@
 
 from anypoints.errors import InvalidFamily, InvalidNumber, InvalidSayings, InvalidTable, NoTables, TooMany
 from anypoints.ratios import is_integer
-from anypoints.tables import PLACES, Table, is_place, without_divisor
+from anypoints.tables import PLACES, Table, is_place, whole_points, without_divisor
 
 # Every table keeps these rows: none of its steps is below 0.
 STEP_ROWS = (
@@ -89,6 +89,17 @@ def most_within(points, rest, kept):
     return most
 
 
+def whole_corners(family):
+    """The points of the corners of the family, lists of INTEGERS, in their sequence."""
+    return [whole_points(corner) for corner in family.corners()]
+
+
+def check_family(family):
+    """Raises InvalidFamily unless the value is a Family."""
+    if not isinstance(family, Family):
+        raise InvalidFamily(family)
+
+
 class Family:
     """All tables that pay at most so many places and keep all sayings."""
 
@@ -140,8 +151,7 @@ class Family:
         return all([worth(saying, points).sign >= 0 for saying in self._sayings])
 
     def __and__(self, other):
-        if not isinstance(other, Family):
-            raise InvalidFamily(other)
+        check_family(other)
         paid = min(self._paid, other.paid)
         sayings = self._sayings + other.sayings()
         return Family(paid, *sayings)
@@ -168,8 +178,7 @@ class Family:
 
     def beyond(self, other):
         """A table that is in the family and not in the other one, or None."""
-        if not isinstance(other, Family):
-            raise InvalidFamily(other)
+        check_family(other)
         for corner in self._corners:
             if corner not in other:
                 return corner

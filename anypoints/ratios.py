@@ -1,4 +1,4 @@
-"""Exact numbers, and which values count as integers, counts, numbers and names."""
+"""Exact numbers, and which values count as integers, counts, numbers, names and lists."""
 
 from math import gcd
 
@@ -28,6 +28,17 @@ def is_name(value):
     if not isinstance(value, str) or not 1 <= len(value) <= LONGEST_NAME:
         return False
     return all([letter in LETTERS for letter in value])
+
+
+def is_list(value):
+    """Whether the value is a list, or a tuple, which is accepted in its place."""
+    return isinstance(value, (list, tuple))
+
+
+def check_count(value):
+    """Raises InvalidNumber unless the value is a COUNT."""
+    if not is_count(value):
+        raise InvalidNumber(value)
 
 
 def as_ratio(value):

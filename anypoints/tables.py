@@ -14,11 +14,24 @@ def is_place(value):
 
 
 def without_divisor(numbers):
-    """The INTEGERS, not all 0, divided by their greatest common divisor."""
+    """The INTEGERS, divided by their greatest common divisor unless all are 0."""
     shared = 0
     for number in numbers:
         shared = gcd(shared, number)
+    if shared == 0:
+        return list(numbers)
     return [number // shared for number in numbers]
+
+
+def whole_points(table):
+    """The points of the like table without a common divisor, as INTEGERS."""
+    return [point.top for point in table.reduced().points()]
+
+
+def check_table(table):
+    """Raises InvalidTable unless the value is a Table."""
+    if not isinstance(table, Table):
+        raise InvalidTable(table)
 
 
 def check_many(numbers):
@@ -112,8 +125,7 @@ class Table:
 
     def is_like(self, other):
         """Whether one table is the other one multiplied by a number above 0."""
-        if not isinstance(other, Table):
-            raise InvalidTable(other)
+        check_table(other)
         return self.reduced() == other.reduced()
 
     def reduced(self):
@@ -126,8 +138,7 @@ class Table:
         return Table(*points)
 
     def __add__(self, other):
-        if not isinstance(other, Table):
-            raise InvalidTable(other)
+        check_table(other)
         points = [one + more for one, more in zip(self._points, other.points())]
         return Table(*points)
 

@@ -1,10 +1,14 @@
 """What several tests need: values of wrong kinds, and a check of errors."""
 
+import random
 import unittest
 from fractions import Fraction
 
+from anypoints.charts import Chart
+from anypoints.diaries import Diary
 from anypoints.families import Family
 from anypoints.ratios import Ratio
+from anypoints.seasons import Season
 from anypoints.tables import Table
 
 BIG = 10 ** 30 - 1
@@ -31,12 +35,110 @@ def no_families():
     return [True, False, None, 0, 1, 5, "all 5", (1,), [], {}, (5, (1, -2)), Ratio(1), Table(1), Family]
 
 
+def no_counts():
+    """Values that are no COUNTS, of many kinds."""
+    return no_integers() + [-1, -BIG]
+
+
+def no_rows():
+    """Values that are no rows, of many kinds."""
+    told = [[], [1] * 4, [1] * 6, [1, 2, 3, 4, True], [False, 0, 0, 0, 0], [0, 0, None, 0, 0], [0, 0, 0, "0", 0],
+            [0, 0, 0, Ratio(0), 0], [[0], 0, 0, 0, 0], (1,) * 4, (1,) * 6, (0, 0, 0, 0, False),
+            {0: 0, 1: 0, 2: 0, 3: 0, 4: 0}, {0, 1, 2, 3, 4}, range(5), "00000", b"00000", None, True, 0, 5, Ratio(5),
+            Table(1, 1, 1, 1, 1), Family(5), Chart({"a": [1, 1, 1, 1, 1]}), object()]
+    return told
+
+
+def no_names():
+    """Values that are no NAMES, of many kinds."""
+    return [None, True, False, 0, 1, "", "A", "aB", "a b", " a", "a1", "abcdefghi", "-", "a\n", b"a", ["a"], ("a",),
+            {"a": 1}, {"a"}, [], (), {}, Ratio(1), Table(1), Season(["a"]), Chart({"a": []}), object()]
+
+
+def no_keys():
+    """Values that are no NAMES, and that can be keys of a dict."""
+    return [None, True, False, 0, 1, "", "A", "aB", "a b", " a", "a1", "abcdefghi", "-", "a\n", b"a", ("a",), (),
+            object()]
+
+
+def no_races():
+    """Values that are no races, whoever the riders are."""
+    return [None, True, False, 0, 3, "", "a", "ab", b"a", {}, {"a": 1}, {"a"}, iter(["a"]), range(0), Ratio(1),
+            Table(1), Season(["a"]), [None], ["a", None], ("a", None), [None, None], ["a", "a"], ["a", None, "a"],
+            ["A"], [""], ["abcdefghi"], ["a", 1], ["a", True], [False, "a"], [["a"]], [("a",), "b"], [{}, "a"],
+            ["a", b"b"],
+            ["a", "b", "c", "d", "e", "f", "g"], ["a", None, None, None, None, None, "b"], [None] * 7, object()]
+
+
+def no_seasons():
+    """Values that are no Seasons, of many kinds."""
+    return [None, True, False, 0, 1, "a", [], ["a"], [["a"], []], (["a"], []), {"a": []}, Ratio(1), Table(1), Family(1),
+            Chart({"a": [1]}), Diary(Season(["a"])), Season, object()]
+
+
+def no_charts():
+    """Values that are no Charts, of many kinds."""
+    return [None, True, False, 0, 1, "a", [], ["a"], (), {}, {"a": [1, 0, 0, 0, 0]}, {"a": []}, Ratio(1), Table(1),
+            Family(1), Season(["a"], [["a"]]), Diary(Season(["a"])), Chart, object()]
+
+
 def fractions(ratios):
     """The Ratios as fractions of Python's own."""
     return [Fraction(one.top, one.bottom) for one in ratios]
 
 
+def drawn_season(draw, riders, many):
+    """A season of these riders with so many drawn races, in which nobody may hold a place."""
+    races = []
+    for _ in range(many):
+        race = [rider if draw.randint(0, 5) else None for rider in draw.sample(riders, draw.randint(0, len(riders)))]
+        while race and race[-1] is None:
+            race.pop()
+        races.append(race)
+    return Season(riders, races)
+
+
+def seasons():
+    """Seasons of many kinds, each with the riders a and b and some races."""
+    draw = random.Random(11)
+    told = [Season(["a", "b"], [["b"]]), Season(("b", "a"), ([], ("a", None, "b"), ())),
+            Season(list("fedcba"), [list("abcdef"), list("fedcba"), [None, None, None, None, None, "a"]])]
+    return told + [drawn_season(draw, list("abcdef")[:2 + k % 5], 1 + k % 9) for k in range(40)]
+
+
+def spoilt(value):
+    """Changes every list and dict in the value, and returns them."""
+    found = []
+    if isinstance(value, (list, tuple)):
+        found = [part for inner in value for part in spoilt(inner)]
+    if isinstance(value, dict):
+        found = [part for inner in value.values() for part in spoilt(inner)]
+    if isinstance(value, list):
+        found.append(value)
+        value.reverse()
+        value.append("spoilt")
+    if isinstance(value, dict):
+        found.append(value)
+        value.clear()
+        value["spoilt"] = 1
+    return found
+
+
 class Case(unittest.TestCase):
+    def assertNew(self, call):
+        """Checks that what the call returns is new each time, and that changing it changes nothing."""
+        before, changed = repr(call()), call()
+        found = spoilt(changed) + spoilt(call())
+        self.assertGreater(len(found), 0)
+        self.assertEqual(len({id(part) for part in found}), len(found))
+        self.assertNotEqual(repr(changed), before)
+        self.assertEqual(repr(call()), before)
+
+    def assertFailsAlike(self, kind, values, call, **named):
+        """Checks the error by names and by positions; the names stand in the sequence of the parameters."""
+        self.assertFails(kind, values, call, **named)
+        self.assertFails(kind, values, call, *named.values())
+
     def assertFails(self, kind, values, call, *passed, **named):
         """Checks that the call raises just this error, with these values as attributes."""
         with self.assertRaises(kind) as caught:

@@ -2,6 +2,7 @@ import operator
 import random
 import unittest
 from fractions import Fraction
+from functools import cache
 from itertools import combinations, product
 from math import gcd, lcm
 
@@ -50,6 +51,11 @@ def solved(rows, many):
 
 def plain_corners(paid, sayings):
     """The corners by all choices of sayings and places that are just kept, as tuples."""
+    return found_corners(paid, tuple(sayings))
+
+
+@cache
+def found_corners(paid, sayings):
     rows = bounds(paid, sayings)
     found = set()
     for chosen in combinations(rows, paid - 1):
@@ -227,12 +233,14 @@ class CornersTest(Case):
             self.assertEqual(other.corners(), some.corners())
 
 
+@cache
 def families():
     """Families of many kinds, each with at least one table."""
     told = SPECIAL + drawn(4, 80, 3)
     return [Family(paid, *sayings) for paid, sayings in told if plain_corners(paid, sayings)]
 
 
+@cache
 def tables():
     """Tables of many kinds."""
     draw = random.Random(5)

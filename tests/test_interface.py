@@ -7,68 +7,112 @@ import inspect
 import pathlib
 import unittest
 
-from anypoints.families import Family
-from anypoints.ratios import Ratio
-from anypoints.tables import Table
-
 TOP = pathlib.Path(__file__).resolve().parent.parent
 FILES = sorted((TOP / "anypoints").rglob("*.py"))
 
-INTERFACE = {
-    "ratios": {
-        "is_integer": None, "is_count": None, "is_number": None, "is_name": None,
-        "Ratio": ["__init__", "top", "bottom", "sign", "__add__", "__radd__", "__sub__", "__rsub__", "__mul__",
-                  "__rmul__", "__neg__", "over", "is_below", "total", "__eq__", "__str__", "__repr__"],
-    },
-    "tables": {
-        "Table": ["__init__", "of_steps", "first_places", "steep", "points", "steps", "__getitem__", "paid", "is_like",
-                  "reduced", "__add__", "__mul__", "__rmul__", "__eq__", "__repr__"],
-    },
-    "families": {
-        "Family": ["__init__", "MOST_SAYINGS", "shrinking", "doubling", "paid", "sayings", "corners", "__contains__",
-                   "__and__", "parts", "is_within", "beyond", "is_same", "__eq__", "__repr__"],
-    },
+# For each name of the interface: the parameters of a function or of the constructor of a class.
+PARAMETERS = {
+    "ratios": {"is_integer": "value", "is_count": "value", "is_number": "value", "is_name": "value",
+               "Ratio": "top bottom"},
+    "tables": {"Table": "points"},
+    "families": {"Family": "paid sayings"},
+    "derive": {"is_kept": "family row", "derivation_of": "family row", "is_derivation": "family row value"},
+    "seasons": {"is_race": "value", "Season": "riders races"},
+    "diaries": {"Diary": "season", "Trial": "diary", "tried": "diary deed"},
+    "charts": {"Chart": "rows", "chart_of": "season", "best_of": "season many"},
 }
 
-CALLS = [(Ratio.over, ["other"]), (Ratio.is_below, ["other"]), (Table.is_like, ["other"]), (Family.parts, ["table"]),
-         (Family.is_within, ["other"]), (Family.beyond, ["other"]), (Family.is_same, ["other"])]
+# For each class: its methods and their parameters behind the object, or None for what is none.
+METHODS = {
+    "Ratio": {"top": None, "bottom": None, "sign": None, "__add__": "other", "__radd__": "other", "__sub__": "other",
+              "__rsub__": "other", "__mul__": "other", "__rmul__": "other", "__neg__": "", "over": "other",
+              "is_below": "other", "total": "numbers", "__eq__": "other", "__str__": "", "__repr__": ""},
+    "Table": {"of_steps": "steps", "first_places": "k", "steep": "s k", "points": "", "steps": "", "__getitem__": "at",
+              "paid": None, "is_like": "other", "reduced": "", "__add__": "other", "__mul__": "other",
+              "__rmul__": "other", "__eq__": "other", "__repr__": ""},
+    "Family": {"MOST_SAYINGS": None, "shrinking": "paid", "doubling": "paid", "paid": None, "sayings": "",
+               "corners": "", "__contains__": "x", "__and__": "other", "parts": "table", "is_within": "other",
+               "beyond": "other", "is_same": "other", "__eq__": "other", "__repr__": ""},
+    "Season": {"MOST_RIDERS": None, "MOST_RACES": None, "riders": "", "races": "", "__len__": "", "__getitem__": "at",
+               "__contains__": "x", "place": "rider position", "places": "rider", "__add__": "other",
+               "__mul__": "other", "__rmul__": "other", "with_race": "race", "without_race": "position",
+               "struck": "rider", "voided": "rider position", "__eq__": "other", "__repr__": ""},
+    "Diary": {"season": None, "set_season": "season", "__getitem__": "at", "__setitem__": "at worth",
+              "cut": "position", "put": "race", "__iadd__": "other", "void": "rider position", "__len__": "",
+              "copy": "", "each_race": ""},
+    "Trial": {"__enter__": "", "__exit__": "kind value trace"},
+    "Chart": {"riders": "", "rows": "", "__getitem__": "at", "firsts": "rider", "__contains__": "x", "__len__": "",
+              "__add__": "other", "__mul__": "other", "__rmul__": "other", "without": "rider", "teamed": "teams",
+              "__eq__": "other", "__repr__": ""},
+}
+
+CLASS_METHODS = ["total", "of_steps", "first_places", "steep", "shrinking", "doubling"]
+
+EXAMPLES = """
+>>> from anypoints.ratios import Ratio
+>>> from anypoints.tables import Table
+>>> old = Table(3, 2, 1)
+>>> [old.paid, str(old[2]), [str(step) for step in old.steps()], old.is_like(Table(6, 4, 2)),
+... old + Table.first_places(1)]
+[3, '2', ['1', '1', '1', '0', '0'], True, Table(Ratio(4, 1), Ratio(2, 1), Ratio(1, 1))]
+
+>>> from anypoints.families import Family
+>>> from anypoints.derive import derivation_of, is_derivation
+>>> from anypoints.tables import Table
+>>> some = Family(3, (1, -2))
+>>> [[[str(one) for one in table.points()] for table in some.corners()], Table(3, 2, 1) in some]
+[[['1', '0', '0', '0', '0'], ['2', '1', '0', '0', '0'], ['2', '1', '1', '0', '0']], False]
+>>> [is_derivation(some, [1, -1, -1, 0, 0], ([1], [0, 1, 0])), derivation_of(some, [1, -1, -2, 0, 0])]
+[True, None]
+
+>>> from anypoints.seasons import Season
+>>> year = Season(["a", "b", "c", "d"], [["a", "b"], ["b", "c", "d", "a"], ["a", "b"]])
+>>> [year.places("a"), year.struck("b")[1], year.voided("c", 1)[1], year[0]]
+[[1, 4, 1], ['c', 'd', 'a'], ['b', None, 'd', 'a'], ['a', 'b']]
+"""
+
+
+def parameters(call):
+    """The names of the parameters, joined by spaces."""
+    return " ".join(inspect.signature(call).parameters)
+
+
+def run(text, name):
+    """Runs the examples of the text: how many failed, and how many there are."""
+    found = doctest.DocTestRunner().run(doctest.DocTestParser().get_doctest(text, {}, name, None, 0))
+    return found.failed, found.attempted
 
 
 class InterfaceTest(unittest.TestCase):
     def test_defined_in_its_file(self):
-        for file, names in INTERFACE.items():
+        for file, names in PARAMETERS.items():
             module = importlib.import_module("anypoints." + file)
-            for name, methods in names.items():
+            for name, told in names.items():
                 found = getattr(module, name)
                 self.assertEqual(found.__module__, module.__name__)
-                for method in methods or []:
-                    self.assertIn(method, vars(found))
+                self.assertEqual(parameters(found), told, name)
+                self.assertEqual(inspect.isclass(found), name in METHODS)
 
-    def test_names_of_parameters(self):
-        for call, names in CALLS:
-            self.assertEqual(list(inspect.signature(call).parameters)[1:], names)
-        for name in ["is_integer", "is_count", "is_number", "is_name"]:
-            call = getattr(importlib.import_module("anypoints.ratios"), name)
-            self.assertEqual(list(inspect.signature(call).parameters), ["value"])
+    def test_methods_are_defined_in_the_class(self):
+        for file, names in PARAMETERS.items():
+            for name in names:
+                found = getattr(importlib.import_module("anypoints." + file), name)
+                for method, told in METHODS.get(name, {}).items():
+                    self.assertIn(method, vars(found), name)
+                    if told is not None and method in CLASS_METHODS:
+                        self.assertEqual(parameters(getattr(found, method)), told)
+                    elif told is not None:
+                        self.assertEqual(parameters(vars(found)[method]), ("self " + told).strip())
 
-    def test_example_of_tables(self):
-        old = Table(3, 2, 1)
-        found = [old.paid, str(old[2]), [str(step) for step in old.steps()], old.is_like(Table(6, 4, 2)),
-                 old + Table.first_places(1)]
-        self.assertEqual(repr(found), "[3, '2', ['1', '1', '1', '0', '0'], True, "
-                                      "Table(Ratio(4, 1), Ratio(2, 1), Ratio(1, 1))]")
-
-    def test_example_of_families(self):
-        some = Family(3, (1, -2))
-        found = [[[str(one) for one in table.points()] for table in some.corners()], Table(3, 2, 1) in some]
-        self.assertEqual(found, [[["1", "0", "0", "0", "0"], ["2", "1", "0", "0", "0"], ["2", "1", "1", "0", "0"]],
-                                 False])
+    def test_examples_of_the_document(self):
+        failed, attempted = run(EXAMPLES, "DOC.md")
+        self.assertEqual(failed, 0)
+        self.assertGreater(attempted, 10)
 
     def test_examples_of_the_readme(self):
-        text = (TOP / "README.md").read_text().replace("```", "")
-        found = doctest.DocTestRunner().run(doctest.DocTestParser().get_doctest(text, {}, "README.md", None, 0))
-        self.assertEqual(found.failed, 0)
-        self.assertGreater(found.attempted, 5)
+        failed, attempted = run((TOP / "README.md").read_text().replace("```", ""), "README.md")
+        self.assertEqual(failed, 0)
+        self.assertGreater(attempted, 5)
 
 
 class FormTest(unittest.TestCase):
