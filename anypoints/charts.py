@@ -56,6 +56,16 @@ def check_chart(chart):
         raise InvalidChart(chart)
 
 
+def rivals_of(chart, rider):
+    """The other riders of the chart, sorted."""
+    return [other for other in chart.riders() if other != rider]
+
+
+def gap_row(chart, one, rival):
+    """The counts of one less those of the rival, place by place."""
+    return [number - less for number, less in zip(chart[one], chart[rival])]
+
+
 class Chart:
     """For each of one to six riders five counts: how often the rider came to each place."""
 

@@ -1,7 +1,7 @@
 """Derivations: what shows that all tables of a family keep a row."""
 
 from anypoints.errors import InvalidRow
-from anypoints.families import STEP_ROWS, check_family, whole_corners, worth
+from anypoints.families import STEP_ROWS, check_family, worth
 from anypoints.ratios import as_ratio, is_integer, is_list, is_number
 from anypoints.solving import solution_of
 from anypoints.tables import PLACES
@@ -35,7 +35,7 @@ def is_kept(family, row):
     """Whether all tables of the family keep the row."""
     check_family(family)
     check_row(row)
-    return all([worth(row, points) >= 0 for points in whole_corners(family)])
+    return all([worth(row, points) >= 0 for points in family.corner_points()])
 
 
 def derivation_of(family, row):

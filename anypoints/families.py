@@ -2,7 +2,7 @@
 
 from anypoints.errors import InvalidFamily, InvalidNumber, InvalidSayings, InvalidTable, NoTables, TooMany
 from anypoints.ratios import is_integer
-from anypoints.tables import PLACES, Table, is_place, whole_points, without_divisor
+from anypoints.tables import PLACES, Table, is_place, without_divisor
 
 # Every table keeps these rows: none of its steps is below 0.
 STEP_ROWS = (
@@ -89,11 +89,6 @@ def most_within(points, rest, kept):
     return most
 
 
-def whole_corners(family):
-    """The points of the corners of the family, lists of INTEGERS, in their sequence."""
-    return [whole_points(corner) for corner in family.corners()]
-
-
 def check_family(family):
     """Raises InvalidFamily unless the value is a Family."""
     if not isinstance(family, Family):
@@ -115,9 +110,10 @@ class Family:
             raise TooMany("sayings", self.MOST_SAYINGS)
         self._paid = paid
         self._sayings = [five_of(saying) for saying in sayings]
-        self._corners = [Table(*row) for row in corner_rows(paid, self._sayings)]
-        if len(self._corners) == 0:
+        self._corner_rows = corner_rows(paid, self._sayings)
+        if len(self._corner_rows) == 0:
             raise NoTables()
+        self._corners = [Table(*row) for row in self._corner_rows]
 
     @classmethod
     def shrinking(cls, paid):
@@ -143,6 +139,10 @@ class Family:
     def corners(self):
         """The corners, in ascending order of the lists of their points."""
         return list(self._corners)
+
+    def corner_points(self):
+        """The points of the corners, lists of INTEGERS, in the sequence of the corners."""
+        return [list(row) for row in self._corner_rows]
 
     def __contains__(self, x):
         if not isinstance(x, Table) or x.paid > self._paid:

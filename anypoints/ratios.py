@@ -48,6 +48,11 @@ def as_ratio(value):
     return Ratio(value)
 
 
+def sign_of(number):
+    """-1, 0 or 1, as the NUMBER is below, at or above 0."""
+    return as_ratio(number).sign
+
+
 class Ratio:
     """A fraction in lowest terms, its bottom at least 1."""
 

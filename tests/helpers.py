@@ -3,6 +3,8 @@
 import random
 import unittest
 from fractions import Fraction
+from math import lcm
+from operator import mul
 
 from anypoints.charts import Chart
 from anypoints.diaries import Diary
@@ -104,6 +106,63 @@ def seasons():
     told = [Season(["a", "b"], [["b"]]), Season(("b", "a"), ([], ("a", None, "b"), ())),
             Season(list("fedcba"), [list("abcdef"), list("fedcba"), [None, None, None, None, None, "a"]])]
     return told + [drawn_season(draw, list("abcdef")[:2 + k % 5], 1 + k % 9) for k in range(40)]
+
+
+def drawn_chart(draw, riders, size):
+    """A chart of these riders with drawn counts."""
+    return Chart({rider: [draw.randint(0, size) for _ in range(draw.randint(0, 5))] for rider in riders})
+
+
+def drawn_charts(seed, many, size, least=1):
+    """Charts of one to six riders (or of at least so many), with drawn counts."""
+    draw = random.Random(seed)
+    return [drawn_chart(draw, "abcdef"[:draw.randint(least, 6)], size) for _ in range(many)]
+
+
+def some_families():
+    """A few families that differ much from each other."""
+    told = [Family(k) for k in range(1, 6)] + [Family.shrinking(k) for k in range(2, 6)]
+    told += [Family.doubling(k) for k in range(2, 6)] + [Family(3, (1, -2)), Family(5, (0, -1)), Family(5, (-1, 5))]
+    told += [Family(5, (1, -1), (-1, 1)), Family(4, (-1, 3), (1, -2), (0, 1, -2)), Family(5, (1, -1, -1, -1, -1))]
+    told += [Family(2, (2, -3), (-2, 3)), Family(5, (-1, 2, 0, 0, 0), (0, 3, -4), (-5, 7, 0, 1), (1, 1, -3))]
+    return told
+
+
+def inside(family):
+    """Tables of the family: its corners, and sums of them."""
+    draw = random.Random(12)
+    corners = family.corners()
+    found = list(corners)
+    for one in corners:
+        for other in corners:
+            found.append(one * draw.randint(1, 4) + other * Ratio(1, draw.randint(1, 9)))
+    for _ in range(10):
+        table = draw.choice(corners)
+        for corner in corners:
+            table = table + corner * Ratio(draw.randint(1, 9), draw.randint(1, 9))
+        found.append(table)
+    return found
+
+
+def points(chart, table, rider):
+    """The points of the rider as a fraction of Python's own."""
+    return sum(many * point for many, point in zip(chart.rows()[rider], fractions(table.points())))
+
+
+def scaled(table):
+    """The points of the table, multiplied such that they are integers."""
+    told = fractions(table.points())
+    whole = lcm(*[point.denominator for point in told])
+    return [int(point * whole) for point in told]
+
+
+def lead(chart, one, rival, scale):
+    """How many points one has more than the rival, by points that are integers."""
+    return sum(map(mul, chart[one], scale)) - sum(map(mul, chart[rival], scale))
+
+
+def sign(number):
+    return (number > 0) - (number < 0)
 
 
 def spoilt(value):

@@ -20,6 +20,16 @@ PARAMETERS = {
     "seasons": {"is_race": "value", "Season": "riders races"},
     "diaries": {"Diary": "season", "Trial": "diary", "tried": "diary deed"},
     "charts": {"Chart": "rows", "chart_of": "season", "best_of": "season many"},
+    "standings": {"points_of": "chart table rider", "totals": "chart table", "standing": "chart table",
+                  "steep_standing": "chart", "steepness": "chart"},
+    "leads": {"gaps": "chart family one rival", "relation": "chart family one rival",
+              "is_sure": "chart family rider left", "most_left": "chart family rider",
+              "fewest_voided": "season family one rival", "voiding": "season family one rival"},
+    "parting": {"are_alike": "chart other family", "parting": "chart other family",
+                "is_parting": "chart other family value", "turning": "chart other family one rival",
+                "turned": "chart other family"},
+    "mixes": {"is_so": "chart table rider end", "is_mix": "chart rider value", "mixed_points": "chart table mix",
+              "bars": "chart family rider end value"},
 }
 
 # For each class: its methods and their parameters behind the object, or None for what is none.
@@ -69,6 +79,20 @@ EXAMPLES = """
 >>> year = Season(["a", "b", "c", "d"], [["a", "b"], ["b", "c", "d", "a"], ["a", "b"]])
 >>> [year.places("a"), year.struck("b")[1], year.voided("c", 1)[1], year[0]]
 [[1, 4, 1], ['c', 'd', 'a'], ['b', None, 'd', 'a'], ['a', 'b']]
+
+>>> from anypoints.charts import Chart, chart_of
+>>> from anypoints.standings import standing, steepness
+>>> chart = chart_of(year)
+>>> [chart["a"], chart.firsts("b"), standing(chart, Table(3, 2, 1)), steepness(chart)]
+[[2, 0, 0, 1, 0], [1, 3, 3, 3, 3], [['b'], ['a'], ['c'], ['d']], 2]
+
+>>> from anypoints.leads import gaps, relation
+>>> from anypoints.parting import turned
+>>> free = Family(5)
+>>> [gaps(chart, free, "a", "b"), relation(chart, free, "a", "b"), relation(chart, free, "b", "c")]
+[[1, -1, -1, 0, 0], 'open', 'ahead']
+>>> turned(chart, Chart({"a": [0, 3], "b": [1, 1], "c": [], "d": []}), free)
+[('a', 'b'), ('b', 'a')]
 """
 
 

@@ -158,6 +158,7 @@ class AskingTest(Case):
             self.assertFailsAlike(UnknownRider, {"value": value}, year().place, rider=value, position=0)
             self.assertFails(UnknownRider, {"value": value}, year().place, value, -1)
             self.assertFailsAlike(UnknownRider, {"value": value}, year().places, rider=value)
+            self.assertFailsAlike(UnknownRider, {"value": value}, Season(["a"]).places, rider=value)
         for value in no_positions(3):
             self.assertFailsAlike(NoRace, {"value": value}, year().place, rider="a", position=value)
 
