@@ -2,7 +2,7 @@
 
 from anypoints.errors import InvalidFamily, InvalidNumber, InvalidSayings, InvalidTable, NoTables, TooMany
 from anypoints.ratios import is_integer
-from anypoints.tables import PLACES, Table, is_place, without_divisor
+from anypoints.tables import PLACES, Table, is_place, whole_numbers, without_divisor
 
 # Every table keeps these rows: none of its steps is below 0.
 STEP_ROWS = (
@@ -67,14 +67,25 @@ def cut(corners, kept, saying):
     return found
 
 
+def cut_by_all(corners, kept, sayings):
+    """The corners of what keeps all the sayings as well as the rows that are kept so far."""
+    for saying in sayings:
+        corners = cut(corners, kept, saying)
+        kept = [*kept, saying]
+    return corners
+
+
 def corner_rows(paid, sayings):
     """The points of the corners, lists of INTEGERS, in ascending order."""
     corners = [[1] * k + [0] * (PLACES - k) for k in range(1, paid + 1)]
-    kept = list(STEP_ROWS)
-    for saying in sayings:
-        corners = cut(corners, kept, saying)
-        kept = kept + [saying]
-    return sorted(corners)
+    return sorted(cut_by_all(corners, list(STEP_ROWS), sayings))
+
+
+def sum_of_corners(family, numbers):
+    """The table that the corners, multiplied by the Ratios, add up to, or a like one."""
+    rows = family.corner_points()
+    points = [worth(whole_numbers(numbers), column) for column in zip(*rows)]
+    return Table(*points).reduced()
 
 
 def most_within(points, rest, kept):

@@ -23,6 +23,14 @@ def without_divisor(numbers):
     return [number // shared for number in numbers]
 
 
+def whole_numbers(ratios):
+    """The Ratios, multiplied such that they are INTEGERS without a common divisor."""
+    bottom = 1
+    for ratio in ratios:
+        bottom = lcm(bottom, ratio.bottom)
+    return without_divisor([ratio.top * (bottom // ratio.bottom) for ratio in ratios])
+
+
 def whole_points(table):
     """The points of the like table without a common divisor, as INTEGERS."""
     return [point.top for point in table.reduced().points()]
@@ -130,11 +138,7 @@ class Table:
 
     def reduced(self):
         """The like table whose points are INTEGERS without a common divisor."""
-        bottom = 1
-        for point in self._points:
-            bottom = lcm(bottom, point.bottom)
-        whole = [point.top * (bottom // point.bottom) for point in self._points]
-        points = without_divisor(whole)
+        points = whole_numbers(self._points)
         return Table(*points)
 
     def __add__(self, other):

@@ -183,7 +183,19 @@ def spoilt(value):
     return found
 
 
+def keeps(family, told):
+    """Whether the points, numbers of Python's own, are those of a table of the family, by the words of the document."""
+    sayings = [list(saying) + [0] * (5 - len(saying)) for saying in family.sayings()]
+    falling = all(a >= b for a, b in zip(told, told[1:])) and told[4] >= 0 and told[0] > 0
+    return falling and not any(told[family.paid:]) and all(sum(map(mul, saying, told)) >= 0 for saying in sayings)
+
+
 class Case(unittest.TestCase):
+    def assertInside(self, table, family):
+        """Checks that this is a Table, and one of the family."""
+        self.assertIs(type(table), Table)
+        self.assertTrue(keeps(family, fractions(table.points())), (table, family))
+
     def assertNew(self, call):
         """Checks that what the call returns is new each time, and that changing it changes nothing."""
         before, changed = repr(call()), call()

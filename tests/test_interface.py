@@ -30,6 +30,14 @@ PARAMETERS = {
                 "turned": "chart other family"},
     "mixes": {"is_so": "chart table rider end", "is_mix": "chart rider value", "mixed_points": "chart table mix",
               "bars": "chart family rider end value"},
+    "winners": {"can_be": "chart family rider end", "table_for": "chart family rider end",
+                "mix_against": "chart family rider end", "all_who": "chart family end",
+                "can_still": "chart family rider left end"},
+    "orders": {"is_order": "chart value", "does_come": "chart table order", "order_table": "chart family order",
+               "weights_against": "chart family order", "are_weights": "chart family order value",
+               "all_orders": "chart family"},
+    "planes": {"Plane": "chart family"},
+    "rounds": {"least_races": "chart", "does_fit": "chart many", "what_bars": "chart many", "season_of": "chart many"},
 }
 
 # For each class: its methods and their parameters behind the object, or None for what is none.
@@ -54,6 +62,8 @@ METHODS = {
     "Chart": {"riders": "", "rows": "", "__getitem__": "at", "firsts": "rider", "__contains__": "x", "__len__": "",
               "__add__": "other", "__mul__": "other", "__rmul__": "other", "without": "rider", "teamed": "teams",
               "__eq__": "other", "__repr__": ""},
+    "Plane": {"hull": "", "region": "rider", "share": "rider", "__contains__": "x", "table_at": "point",
+              "leaders": "point", "__eq__": "other"},
 }
 
 CLASS_METHODS = ["total", "of_steps", "first_places", "steep", "shrinking", "doubling"]
@@ -93,6 +103,24 @@ EXAMPLES = """
 [[1, -1, -1, 0, 0], 'open', 'ahead']
 >>> turned(chart, Chart({"a": [0, 3], "b": [1, 1], "c": [], "d": []}), free)
 [('a', 'b'), ('b', 'a')]
+
+>>> from anypoints.winners import all_who, can_be, mix_against
+>>> [all_who(chart, free, "first"), all_who(chart, Family(1), "last alone"), can_be(chart, Family(1), "b", "first")]
+[['a', 'b'], [], False]
+>>> mix_against(chart, free, "c", "first alone") is None
+False
+
+>>> from anypoints.orders import all_orders
+>>> from anypoints.planes import Plane
+>>> list(all_orders(chart, Family.shrinking(2)))
+[['a', 'b', 'c', 'd']]
+>>> plane = Plane(chart, Family(3))
+>>> [[str(x) + " " + str(y) for x, y in plane.region("a")], str(plane.share("a"))]
+[['0 0', '1/2 0', '1/2 1/2'], '1/4']
+
+>>> from anypoints.rounds import least_races, what_bars
+>>> [least_races(chart), what_bars(chart, 2) in [("rider", "a"), ("rider", "b"), ("place", 1), ("place", 2)]]
+[3, True]
 """
 
 

@@ -4,8 +4,8 @@ from fractions import Fraction
 from itertools import product
 
 from anypoints.ratios import Ratio
-from anypoints.solving import solution_of
-from tests.helpers import BIG, Case
+from anypoints.solving import decided, numbers_or_weights, solution_of
+from tests.helpers import BIG, Case, fractions
 
 
 class SolutionTest(Case):
@@ -62,10 +62,64 @@ class SolutionTest(Case):
             numbers[barred] += 1
         self.assertGreater(min(numbers), 100)
 
+    def test_solution_or_bar(self):
+        draw = random.Random(23)
+        found = [0, 0]
+        for size, many in product([1, 3, BIG], range(1, 200)):
+            columns = [[draw.randint(-size, size) for _ in range(1 + many % 4)] for _ in range(draw.randint(0, 6))]
+            target = [draw.randint(-size, size) for _ in range(1 + many % 4)]
+            numbers, bar = decided(columns, target)
+            found[bar is None] += 1
+            self.assertEqual(solution_of(columns, target), numbers)
+            if bar is None:
+                self.check(columns, target, numbers)
+                continue
+            self.assertIsNone(numbers)
+            self.assertEqual([type(number) for number in bar], [int] * len(target))
+            self.assertGreater(sum(a * b for a, b in zip(bar, target)), 0)
+            for column in columns:
+                self.assertLessEqual(sum(a * b for a, b in zip(bar, column)), 0)
+        self.assertGreater(min(found), 100)
+
     def test_nothing_changes(self):
         columns, target = [[1, -1], [0, 2]], (-1, 3)
         self.assertIsNone(solution_of(columns, target))
         self.assertEqual([columns, target], [[[1, -1], [0, 2]], (-1, 3)])
+
+
+class RowsTest(Case):
+    def test_numbers_or_weights(self):
+        draw = random.Random(24)
+        found = {}
+        for size, _, bound in product([1, 3, BIG], range(150), [0, 1]):
+            many = draw.randint(1, 6)
+            rows = [[draw.randint(-size, size) for _ in range(many)] for _ in range(draw.randint(0, 5))]
+            numbers, weights = numbers_or_weights(rows, many, bound)
+            found[bound, weights is None] = found.get((bound, weights is None), 0) + 1
+            if weights is None:
+                told = fractions(numbers)
+                self.assertEqual(len(told), many)
+                self.assertGreaterEqual(min(told), 0)
+                self.assertGreater(max(told), 0)
+                for row in rows:
+                    self.assertGreaterEqual(sum(a * b for a, b in zip(row, told)), Fraction(bound))
+                continue
+            self.assertIsNone(numbers)
+            self.assertEqual([type(number) for number in weights], [int] * len(rows))
+            self.assertGreaterEqual(min(weights), 0)
+            self.assertGreater(max(weights), 0)
+            for column in zip(*rows):
+                self.assertLess(sum(a * b for a, b in zip(column, weights)), bound)
+        self.assertEqual(len(found), 4)
+        self.assertGreater(min(found.values()), 50)
+
+    def test_told_ones(self):
+        self.assertEqual(numbers_or_weights([], 2, 1), ([Ratio(1), Ratio(0)], None))
+        self.assertEqual(numbers_or_weights([[0, 0]], 2, 0)[1], None)
+        self.assertEqual(numbers_or_weights([[0, -5]], 2, 0)[1], None)
+        self.assertIsNone(numbers_or_weights([[0, -5]], 2, 1)[0])
+        self.assertIsNone(numbers_or_weights([[1, -1], [-1, 1]], 2, 1)[0])
+        self.assertIsNone(numbers_or_weights([[1, -2], [-2, 1]], 2, 0)[0])
 
 
 if __name__ == "__main__":
