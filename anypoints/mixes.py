@@ -15,9 +15,14 @@ ENDS = ("first", "first alone", "last", "last alone")
 SIGNS = {"first": (0, 1), "first alone": (1,), "last": (-1, 0), "last alone": (-1,)}
 
 
+def is_end(value):
+    """Whether the value is one of the four ends."""
+    return isinstance(value, str) and value in ENDS
+
+
 def check_end(end):
     """Raises InvalidEnd unless the value is one of the four ends."""
-    if not isinstance(end, str) or end not in ENDS:
+    if not is_end(end):
         raise InvalidEnd(end)
 
 

@@ -38,6 +38,11 @@ PARAMETERS = {
                "all_orders": "chart family"},
     "planes": {"Plane": "chart family"},
     "rounds": {"least_races": "chart", "does_fit": "chart many", "what_bars": "chart many", "season_of": "chart many"},
+    "wishes": {"fulfils": "chart wishes", "can_all": "riders wishes", "wished_chart": "riders wishes",
+               "wish_bar": "riders wishes", "is_wish_bar": "riders wishes value"},
+    "texts": {"season_text": "season", "family_text": "family", "read_season": "text", "read_family": "text"},
+    "judge": {"is_claim": "value", "paper": "claim", "is_paper": "claim value"},
+    "desk": {"Desk": ""},
 }
 
 # For each class: its methods and their parameters behind the object, or None for what is none.
@@ -64,6 +69,7 @@ METHODS = {
               "__eq__": "other", "__repr__": ""},
     "Plane": {"hull": "", "region": "rider", "share": "rider", "__contains__": "x", "table_at": "point",
               "leaders": "point", "__eq__": "other"},
+    "Desk": {"do": "commands", "names": "", "diary": "name", "log": ""},
 }
 
 CLASS_METHODS = ["total", "of_steps", "first_places", "steep", "shrinking", "doubling"]
@@ -121,6 +127,16 @@ False
 >>> from anypoints.rounds import least_races, what_bars
 >>> [least_races(chart), what_bars(chart, 2) in [("rider", "a"), ("rider", "b"), ("place", 1), ("place", 2)]]
 [3, True]
+>>> from anypoints.wishes import can_all, is_wish_bar
+>>> wishes = [(Table(1), "a"), (Table(2), "b")]
+>>> [can_all(["a", "b"], wishes), is_wish_bar(["a", "b"], wishes, [{"b": 2}, {"a": 1}])]
+[False, True]
+
+>>> from anypoints.desk import Desk
+>>> desk = Desk()
+>>> desk.do("season y a b", "race y a b", "race y b - a", "table t 3 2 1", "standing y t", "relation y a b all 5",
+... "undo")
+['done', 'done', 'done', 'done', 'b a', 'never ahead', 'done']
 """
 
 
