@@ -59,6 +59,7 @@ def tell_wishes(told):
     return len(told) == 2 and are_riders_and_wishes(told[0], told[1])
 
 
+# For each kind of claim what has to stand behind its first word.
 FORMS = {
     "never behind": tell_rivals, "can be behind": tell_rivals,
     "can be": tell_end, "cannot be": tell_end,
@@ -120,8 +121,10 @@ def is_order_table(chart, family, order, value):
 
 def rows_to_derive(family, other):
     """The rows that all tables of the family keep if it is within the other one, and only then."""
-    places = range(other.paid + 1, family.paid + 1)
-    return other.sayings() + [[-int(place == at) for at in range(1, PLACES + 1)] for place in places]
+    rows = other.sayings()
+    for place in range(other.paid + 1, family.paid + 1):
+        rows.append([-int(place == at) for at in range(1, PLACES + 1)])
+    return rows
 
 
 def derivations(family, other):

@@ -281,7 +281,8 @@ class AllOrdersTest(Case):
             for found in [all_orders(value, FREE), all_orders(chart=value, family=FREE), all_orders(value, 5)]:
                 self.assertFails(InvalidChart, {"value": value}, next, found)
         for value in no_families():
-            for found in [all_orders(year_chart(), value), all_orders(chart=year_chart(), family=value)]:
+            for found in [all_orders(year_chart(), value), all_orders(chart=year_chart(), family=value),
+                          all_orders(Chart({"a": []}), value)]:
                 self.assertFails(InvalidFamily, {"value": value}, next, found)
 
 

@@ -231,6 +231,17 @@ class BarTest(WishCase):
         self.assertIs(is_wish_bar(["a", "b", "c"], wishes, [{"b": 2}, {"a": 1}]), True)
         self.assertIs(is_wish_bar(["a", "b", "c"], wishes, [{"b": 2, "c": Ratio(1, BIG)}, {"a": 1}]), False)
 
+    def test_each_place_counts(self):
+        for k in range(5):
+            for more, less in [(Table(*[3] * (k + 1)), Table(*[3] * k, 2) if k else Table(3, 1)),
+                               (Table(9, *[2] * k), Table(9, *[2] * k, 1) if k < 4 else Table(9, 2, 2, 2, 1))]:
+                wishes = [(more, "a"), (less, "b")]
+                self.assertIs(is_wish_bar(["a", "b"], wishes, [{"b": 1}, {"a": 1}]), False)
+                self.assertIs(is_wish_bar(["a", "b"], wishes[::-1], [{"a": 1}, {"b": 1}]), False)
+                self.assertIs(self.judged(["a", "b"], wishes), True)
+                like = [(more, "a"), (more, "b")]
+                self.assertIs(is_wish_bar(["a", "b"], like, [{"b": 1}, {"a": 1}]), True)
+
     def test_no_bars(self):
         wishes = [(Table(1), "a"), (Table(2), "b")]
         right = [{"b": 2}, {"a": 1}]
